@@ -2,26 +2,20 @@
 package store
 
 import (
-	"cmp"
 	"slices"
 	"strconv"
 	"strings"
 
 	"tender/api"
+	"tender/objects"
 )
-
-// key is what an object is called by.
-type key struct {
-	kind uint8
-	name string
-}
 
 // Store is a store.
 type Store struct {
 	limit   int
 	version int
 	created int
-	objects map[key]api.Object
+	objects map[objects.Key]api.Object
 	// Every version has left just one event, so the event of a version lies at
 	// its remainder, and a new one takes the place of the one too old to keep.
 	log [api.MaxLog]api.Event
@@ -32,7 +26,7 @@ func New(limit int) (*Store, api.Errno) {
 	if limit < 1 || limit > api.MaxObjects {
 		return nil, api.ErrInvalid
 	}
-	return &Store{limit: limit, objects: map[key]api.Object{}}, api.OK
+	return &Store{limit: limit, objects: map[objects.Key]api.Object{}}, api.OK
 }
 
 // Create lets an object join (P3).
@@ -49,7 +43,7 @@ func (s *Store) Create(o api.Object) (api.Object, api.Errno) {
 
 // Get tells an object (P4).
 func (s *Store) Get(kind uint8, name string) (api.Object, api.Errno) {
-	o, ok := s.objects[key{kind, name}]
+	o, ok := s.objects[objects.Key{Kind: kind, Name: name}]
 	if !ok {
 		return api.Object{}, api.ErrMissing
 	}
@@ -60,11 +54,11 @@ func (s *Store) Get(kind uint8, name string) (api.Object, api.Errno) {
 func (s *Store) List(kind uint8) ([]api.Object, int) {
 	var list []api.Object
 	for k, o := range s.objects {
-		if k.kind == kind {
+		if k.Kind == kind {
 			list = append(list, o)
 		}
 	}
-	slices.SortFunc(list, inOrder)
+	slices.SortFunc(list, objects.InOrder)
 	return list, s.version
 }
 
@@ -109,7 +103,7 @@ func (s *Store) Remove(kind uint8, name string, version int) (api.Object, api.Er
 	if isOther(version, o.Version) {
 		return api.Object{}, api.ErrConflict
 	}
-	delete(s.objects, key{kind, name})
+	delete(s.objects, objects.Key{Kind: kind, Name: name})
 	return s.leaveEvent(api.Deleted, o), api.OK
 }
 
@@ -136,7 +130,7 @@ func (s *Store) mayCreate(o api.Object) api.Errno {
 	if s.version == api.MaxVersion {
 		return api.ErrExhausted
 	}
-	if _, ok := s.objects[key{o.Kind, o.Name}]; ok {
+	if _, ok := s.objects[objects.KeyOf(o)]; ok {
 		return api.ErrExists
 	}
 	if len(s.objects) == s.limit {
@@ -164,7 +158,7 @@ func (s *Store) turn(was, is api.Object) api.Object {
 
 func (s *Store) keep(sort uint8, o api.Object) api.Object {
 	o = s.leaveEvent(sort, o)
-	s.objects[key{o.Kind, o.Name}] = o
+	s.objects[objects.KeyOf(o)] = o
 	return o
 }
 
@@ -186,11 +180,3 @@ func ownName(o api.Object) string {
 
 // isOther: 0 asks for whichever there is.
 func isOther(asked, is int) bool { return asked != 0 && asked != is }
-
-// inOrder looks at Uids of pods, because p10 is told behind p2.
-func inOrder(a, b api.Object) int {
-	if a.Kind == api.Pod {
-		return cmp.Compare(a.Uid, b.Uid)
-	}
-	return strings.Compare(a.Name, b.Name)
-}
