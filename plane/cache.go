@@ -73,3 +73,14 @@ func (c *cache) setOf(uid int) (string, bool) {
 	}
 	return "", false
 }
+
+// liveOf tells the live pods of the set with a Uid, in no order.
+func (c *cache) liveOf(uid int) []api.Object {
+	var live []api.Object
+	for _, o := range c.objects {
+		if o.Kind == api.Pod && o.Owner == uid && isLive(o) {
+			live = append(live, o)
+		}
+	}
+	return live
+}

@@ -42,9 +42,7 @@ func TestNewIsEmpty(t *testing.T) {
 	isUnlisted(t, p)
 	waits(t, p)
 	expects(t, p)
-	if clock, timeouts := p.Clock(); clock != 0 || timeouts != 0 {
-		t.Errorf("Clock() = %d, %d", clock, timeouts)
-	}
+	clocked(t, p, 0, 0)
 }
 
 // P10: the limit is that of the store.

@@ -60,12 +60,17 @@ func (p *Plane) heedSet(n notice) {
 func (p *Plane) heedPod(n notice) {
 	pod := n.event.Object
 	if n.event.Sort == api.Added {
-		p.hopes.seeCreation(pod.Owner)
+		p.hopes.dropCreations(pod.Owner, 1)
 	}
 	if n.event.Sort == api.Deleted || pod.Gone && !n.was.Gone {
-		p.hopes.seeDeletion(pod.Owner, pod.Uid)
+		p.hopes.dropDeletion(pod.Owner, pod.Uid)
 	}
-	if name, ok := p.cache.setOf(pod.Owner); ok {
+	p.callSet(pod.Owner)
+}
+
+// callSet lets the set with a Uid be looked at, if it is in the cache.
+func (p *Plane) callSet(uid int) {
+	if name, ok := p.cache.setOf(uid); ok {
 		p.queue.Add(name)
 	}
 }

@@ -8,8 +8,9 @@ import (
 	"tender/store"
 )
 
-// The tests do by these what a controller and a node do: they write pods, add
-// keys to the queue and lay hopes.
+// The tests bring a plane by these straight to where a controller and a node
+// come to by many steps, or never: they write pods, add keys to the queue and
+// lay hopes.
 
 func (p *Plane) Store() *store.Store { return p.store }
 
@@ -19,5 +20,3 @@ func (p *Plane) Lay(h api.Hope) {
 	h.Deletions = slices.Clone(h.Deletions)
 	p.hopes[h.Uid] = h
 }
-
-func (p *Plane) CountTimeout() { p.timeouts++ }

@@ -18,9 +18,14 @@ const (
 
 func made(t *testing.T, limit int) *plane.Plane {
 	t.Helper()
-	p, err := plane.New(api.Config{Limit: limit, Burst: 1, Timeout: 1})
+	return madeOf(t, api.Config{Limit: limit, Burst: 1, Timeout: 40})
+}
+
+func madeOf(t *testing.T, c api.Config) *plane.Plane {
+	t.Helper()
+	p, err := plane.New(c)
 	if p == nil || err != api.OK {
-		t.Fatalf("New = %v, %d", p, err)
+		t.Fatalf("New(%+v) = %v, %d", c, p, err)
 	}
 	return p
 }
@@ -65,6 +70,29 @@ func does(t *testing.T, p *plane.Plane, op api.Op, did int) {
 func deliver(t *testing.T, p *plane.Plane, n, did int) {
 	t.Helper()
 	does(t, p, api.Op{Kind: api.Deliver, N: n}, did)
+}
+
+// syncs, nodes and ticks: once for each of what they do.
+
+func syncs(t *testing.T, p *plane.Plane, did ...int) {
+	t.Helper()
+	for _, d := range did {
+		does(t, p, api.Op{Kind: api.Sync}, d)
+	}
+}
+
+func nodes(t *testing.T, p *plane.Plane, did ...int) {
+	t.Helper()
+	for _, d := range did {
+		does(t, p, api.Op{Kind: api.Node}, d)
+	}
+}
+
+func ticks(t *testing.T, p *plane.Plane, did ...int) {
+	t.Helper()
+	for _, d := range did {
+		does(t, p, api.Op{Kind: api.Tick}, d)
+	}
 }
 
 // writes does an operation that tells the object.
@@ -170,6 +198,22 @@ func waits(t *testing.T, p *plane.Plane, row ...string) {
 	}
 }
 
+// isDue: these keys wait, and these are due.
+func isDue(t *testing.T, p *plane.Plane, row []string, due ...api.Due) {
+	t.Helper()
+	if gotRow, gotDue := p.Queued(); !slices.Equal(gotRow, row) || !slices.Equal(gotDue, due) {
+		t.Errorf("Queued() = %q, %v, want %q, %v", gotRow, gotDue, row, due)
+	}
+}
+
+// clocked: the clock, and how many timeouts there were.
+func clocked(t *testing.T, p *plane.Plane, clock, timeouts int) {
+	t.Helper()
+	if c, n := p.Clock(); c != clock || n != timeouts {
+		t.Errorf("Clock() = %d, %d, want %d, %d", c, n, clock, timeouts)
+	}
+}
+
 // empties takes all keys that wait, and is done with them.
 func empties(p *plane.Plane) {
 	for key, ok := p.Queue().Take(); ok; key, ok = p.Queue().Take() {
@@ -186,5 +230,9 @@ func expects(t *testing.T, p *plane.Plane, want ...api.Hope) {
 
 // hope: so many creations and these deletions, laid at the tick 7.
 func hope(uid, creations int, deletions ...int) api.Hope {
-	return api.Hope{Uid: uid, Creations: creations, Deletions: deletions, At: 7}
+	return hopeAt(7, uid, creations, deletions...)
+}
+
+func hopeAt(tick, uid, creations int, deletions ...int) api.Hope {
+	return api.Hope{Uid: uid, Creations: creations, Deletions: deletions, At: tick}
 }

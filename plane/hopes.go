@@ -10,26 +10,35 @@ import (
 // hopes lie by the Uids of their sets; those that are met do not lie there.
 type hopes map[int]api.Hope
 
+func (h hopes) areLaid(uid int) bool {
+	_, ok := h[uid]
+	return ok
+}
+
 func (h hopes) forget(uid int) { delete(h, uid) }
 
-func (h hopes) seeCreation(uid int) {
-	hope := h[uid]
-	hope.Creations = max(hope.Creations-1, 0)
-	h.keep(uid, hope)
-}
-
-func (h hopes) seeDeletion(uid, pod int) {
-	hope := h[uid]
-	hope.Deletions = slices.DeleteFunc(hope.Deletions, func(u int) bool { return u == pod })
-	h.keep(uid, hope)
-}
-
-// keep has nothing to keep where there were no hopes: none are as good as met.
-func (h hopes) keep(uid int, hope api.Hope) {
+// keep lays hopes; those that are met are forgotten.
+func (h hopes) keep(hope api.Hope) {
 	if hope.Creations == 0 && len(hope.Deletions) == 0 {
-		h.forget(uid)
+		h.forget(hope.Uid)
 	} else {
-		h[uid] = hope
+		h[hope.Uid] = hope
+	}
+}
+
+// dropCreations: so many are hoped for no more, as they are seen or will not come.
+func (h hopes) dropCreations(uid, n int) {
+	if hope, ok := h[uid]; ok {
+		hope.Creations = max(hope.Creations-n, 0)
+		h.keep(hope)
+	}
+}
+
+// dropDeletion: that of the pod is hoped for no more, as it is seen or will not come.
+func (h hopes) dropDeletion(uid, pod int) {
+	if hope, ok := h[uid]; ok {
+		hope.Deletions = slices.DeleteFunc(hope.Deletions, func(u int) bool { return u == pod })
+		h.keep(hope)
 	}
 }
 

@@ -1,11 +1,9 @@
 package plane_test
 
 import (
-	"slices"
 	"testing"
 
 	"tender/api"
-	"tender/plane"
 )
 
 // P16: sets first, by their names, then pods, by their Uids.
@@ -20,13 +18,6 @@ func TestToldInOrder(t *testing.T) {
 	stored(t, p, want, 11)
 	deliver(t, p, 0, 11)
 	cached(t, p, want, 11)
-}
-
-func isDue(t *testing.T, p *plane.Plane, row []string, due ...api.Due) {
-	t.Helper()
-	if gotRow, gotDue := p.Queued(); !slices.Equal(gotRow, row) || !slices.Equal(gotDue, due) {
-		t.Errorf("Queued() = %q, %v, want %q, %v", gotRow, gotDue, row, due)
-	}
 }
 
 // P16: what is due is told with the ticks of the plane's clock, also behind Crashes.
@@ -54,9 +45,7 @@ func TestQueuedTicks(t *testing.T) {
 	client(t, p, tick)
 	isDue(t, p, []string{"f"})
 	client(t, p, tick, tick)
-	if clock, timeouts := p.Clock(); clock != 8 || timeouts != 0 {
-		t.Errorf("Clock() = %d, %d, want 8, 0", clock, timeouts)
-	}
+	clocked(t, p, 8, 0)
 }
 
 // P16: all hopes, by their Uids.
@@ -72,23 +61,22 @@ func TestExpected(t *testing.T) {
 // P15: a Crash forgets the cache, the queue, with what is due and has failed, and the hopes; all else stays.
 func TestCrash(t *testing.T) {
 	p := made(t, 9)
-	client(t, p, makeSet("a", 1), makeSet("b", 1), api.Op{Kind: api.Tick})
+	client(t, p, makeSet("a", 1), makeSet("b", 1))
+	p.Lay(hopeAt(-39, 1, 1))
+	ticks(t, p, 1)
 	pods(t, p, 1)
 	deliver(t, p, 0, 3)
 	p.Queue().Take()
 	p.Queue().Limited("a")
 	p.Queue().Limited("a")
 	p.Lay(hope(1, 1, 3))
-	p.CountTimeout()
 	for range 2 {
 		does(t, p, api.Op{Kind: api.Crash, Name: "a", N: -1, Version: 9}, 0)
 		isUnlisted(t, p)
 		waits(t, p)
 		expects(t, p)
 		stored(t, p, "a#1:1/0@1 b#2:1/0@2 p3<1.0@3", 3)
-		if clock, timeouts := p.Clock(); clock != 1 || timeouts != 1 {
-			t.Errorf("Clock() = %d, %d, want 1, 1", clock, timeouts)
-		}
+		clocked(t, p, 1, 1)
 	}
 	// It was in hand and is no more, and it has not failed.
 	p.Queue().Limited("a")

@@ -242,11 +242,11 @@ func driven() string {
 // pick takes one of a list, most often of its front, where the likely ones stand.
 func pick[T any](r *rand.Rand, list ...T) T { return list[r.IntN(1+r.IntN(len(list)))] }
 
-// anyOp is one of those that are built, most often a right one; or one of no kind.
+// anyOp is any operation, most often a right one; or one of no kind.
 func anyOp(r *rand.Rand) api.Op {
-	kinds := []uint8{api.MakeSet, api.Scale, api.DropSet, api.DropPod, api.FailPod, api.Read, api.Deliver, api.Deliver, api.Deliver, api.Tick}
-	op := api.Op{Kind: kinds[r.IntN(len(kinds))]}
-	switch r.IntN(40) {
+	kinds := []uint8{api.Sync, api.Deliver, api.Node, api.Scale, api.Tick, api.MakeSet, api.DropPod, api.FailPod, api.DropSet, api.Read}
+	op := api.Op{Kind: pick(r, kinds...)}
+	switch r.IntN(60) {
 	case 0:
 		op.Kind = api.Crash
 	case 1:
@@ -254,7 +254,7 @@ func anyOp(r *rand.Rand) api.Op {
 	}
 	op.Name = pick(r, "a", "b", "c", "d", "eightlet", "", "A", "ninechars", "p2", "\xff")
 	if op.Kind == api.DropPod || op.Kind == api.FailPod {
-		op.Name = fmt.Sprintf("p%d", r.IntN(60))
+		op.Name = podName(r.IntN(60))
 	}
 	op.N = pick(r, 1, 2, 0, 3, 5, 8, 20, 9, -1, 256, least, most)
 	op.Version = pick(r, 0, 0, 0, 0, 0, 1, r.IntN(60), -1, least, most)
@@ -269,43 +269,42 @@ type walk struct {
 	m *model
 }
 
-// learn lets the model know of the events that a write left.
-func (w *walk) learn() {
-	w.Helper()
-	events, err := w.p.Store().Since(len(w.m.events), 99)
-	if err != api.OK || len(events) > 1 {
-		w.Fatalf("a step left %d events: %d", len(events), err)
-	}
-	w.m.events = append(w.m.events, events...)
+func newWalk(t *testing.T, seed uint64) *walk {
+	r := rand.New(rand.NewPCG(seed, 3))
+	c := api.Config{Limit: 1 + int(seed)%8*9, Burst: 1 + r.IntN(4), Timeout: pick(r, 1, 2, 3, 5, 9, 40)}
+	return &walk{T: t, r: r, p: madeOf(t, c), m: newModel(c)}
 }
 
-func (w *walk) step() {
+// do does an operation, and holds the answer and all that is told against what the model says.
+func (w *walk) do(op api.Op) {
 	w.Helper()
-	switch w.r.IntN(8) {
-	case 0:
-		w.p.Store().Create(api.Object{Kind: api.Pod, Owner: 1 + w.r.IntN(1+len(w.m.events))})
-	case 1:
-		w.nodeStep()
-	case 2:
-		w.lay()
-	default:
-		w.do(anyOp(w.r))
+	got, want := w.p.Do(op), w.m.do(op)
+	if got.Err != want.Err || got.Did != want.Did || !slices.Equal(got.Objects, want.Objects) {
+		w.Fatalf("Do(%+v) = %+v, want %+v", op, got, want)
 	}
-	w.learn()
+	spoil(got.Objects)
+	w.compare(op)
 }
 
-// nodeStep removes a pod, or lets it run.
-func (w *walk) nodeStep() {
-	list, _ := w.p.Store().List(api.Pod)
-	if len(list) == 0 {
-		return
+func (w *walk) compare(behind any) {
+	w.Helper()
+	if !w.m.isLike(w.p) {
+		w.Fatalf("behind %+v a plane is\n%s\nand should be\n%s", behind, seen(w.p), w.m.seen())
 	}
-	o := list[w.r.IntN(len(list))]
+	spoilAll(w.p)
+}
+
+// meddle brings a plane to where no operation brings it: pods that nobody asked for, and hopes of any kind.
+func (w *walk) meddle() {
+	w.Helper()
 	if w.r.IntN(2) == 0 {
-		w.p.Store().Remove(api.Pod, o.Name, 0)
+		o := api.Object{Kind: api.Pod, Owner: 1 + w.r.IntN(1+len(w.m.events)), Phase: uint8(w.r.IntN(3))}
+		w.p.Store().Create(o)
+		w.m.create(o)
 	} else {
-		w.p.Store().Update(api.Object{Kind: api.Pod, Name: o.Name, Phase: api.Running})
+		w.lay()
 	}
+	w.compare("meddling")
 }
 
 // lay lays hopes, most often for a set and for pods that there are.
@@ -327,63 +326,49 @@ func (w *walk) lay() {
 	}
 }
 
-// do does an operation, and holds what is told of it against what the model says.
-func (w *walk) do(op api.Op) {
-	w.Helper()
-	want := api.Answer{}
-	switch {
-	case op.Kind == api.Deliver && op.N >= 0:
-		want.Did = w.m.deliver(op.N)
-	case op.Kind == api.Tick:
-		w.m.clock++
-	case op.Kind == api.Crash:
-		w.m.crash()
-	case op.Kind == api.Deliver, op.Kind == api.None, op.Kind > api.Crash:
-		want.Err = api.ErrInvalid
-	default:
-		w.client(op)
-		return
-	}
-	if got := w.p.Do(op); got.Err != want.Err || got.Did != want.Did || len(got.Objects) != 0 {
-		w.Fatalf("Do(%+v) = %+v, want %+v", op, got, want)
-	}
-}
-
-// client: with an error nothing else is told; a write tells an object as it is in the store, or as it left it.
-func (w *walk) client(op api.Op) {
-	w.Helper()
-	_, before := w.p.Stored()
-	a := w.p.Do(op)
-	stored, after := w.p.Stored()
-	switch {
-	case a.Err != api.OK:
-		if len(a.Objects) != 0 || a.Did != 0 || after != before {
-			w.Fatalf("Do(%+v) = %+v, and the version is %d behind %d", op, a, after, before)
-		}
-	case op.Kind == api.Read:
-		want := slices.DeleteFunc(stored, func(o api.Object) bool { return int(o.Kind) != op.N })
-		if !slices.Equal(a.Objects, want) || after != before {
-			w.Fatalf("Do(%+v) = %+v, want %+v", op, a, want)
-		}
-	default:
-		if len(a.Objects) != 1 || a.Objects[0].Name != op.Name || slices.Contains(stored, a.Objects[0]) == (op.Kind == api.DropSet) {
-			w.Fatalf("Do(%+v) = %+v, and the store is %+v", op, a, stored)
-		}
-	}
-}
-
-// P1, P2, P10 to P12, P16: whatever is done, a plane is what the document says, and lists that were written over are nobody else's.
+// P1, P2, P10 to P16: whatever is done, a plane is what the document says, and lists that were written over are nobody else's.
 func TestAnyCalls(t *testing.T) {
-	for seed := range uint64(60) {
-		limit := 1 + int(seed)%8*9
-		w := &walk{T: t, r: rand.New(rand.NewPCG(seed, 3)), p: made(t, limit), m: &model{}}
-		for range 400 {
-			w.step()
-			if got, want := seen(w.p), w.m.seen(); got != want {
-				t.Fatalf("seed %d: a plane is\n%s\nand should be\n%s", seed, got, want)
+	for seed := range uint64(80) {
+		t.Run(fmt.Sprint(seed), func(t *testing.T) {
+			w := newWalk(t, seed)
+			for range 500 {
+				w.do(anyOp(w.r))
 			}
-			spoilAll(w.p)
-		}
+		})
+	}
+}
+
+// P1, P2, P10 to P16: so it is where there are pods and hopes of any kind, too.
+func TestAnyCallsWithMeddling(t *testing.T) {
+	for seed := range uint64(80) {
+		t.Run(fmt.Sprint(seed), func(t *testing.T) {
+			w := newWalk(t, 1000+seed)
+			for range 400 {
+				if w.r.IntN(8) == 0 {
+					w.meddle()
+				}
+				w.do(anyOp(w.r))
+			}
+		})
+	}
+}
+
+// P1, P14, P15: so it is when the versions run out, whatever is begun then.
+func TestAnyCallsAtTheLastVersions(t *testing.T) {
+	for seed := range uint64(80) {
+		t.Run(fmt.Sprint(seed), func(t *testing.T) {
+			w := newWalk(t, 2000+seed)
+			w.do(makeSet("z", 0))
+			for range 100 {
+				w.do(anyOp(w.r))
+			}
+			for n := 1; len(w.m.events) < 580+w.r.IntN(20); n++ {
+				w.do(scale("z", n%2))
+			}
+			for range 100 {
+				w.do(anyOp(w.r))
+			}
+		})
 	}
 }
 
@@ -398,7 +383,8 @@ func TestAnyBytes(t *testing.T) {
 				bytes[i] = byte(r.IntN(13))
 			}
 		}
-		p, q := made(t, 9), made(t, 9)
+		c := api.Config{Limit: 9, Burst: 1 + r.IntN(4), Timeout: 1 + r.IntN(40)}
+		p, q := madeOf(t, c), madeOf(t, c)
 		for _, op := range plane.Decode(string(bytes)) {
 			before := seen(p)
 			a, b := p.Do(op), q.Do(op)
